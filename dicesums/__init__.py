@@ -1,0 +1,1 @@
+"""Dicesums: dice with the same sums."""
