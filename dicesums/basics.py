@@ -1,4 +1,4 @@
-"""What the other files share: checks of what is handed in, and the counting of sums."""
+"""What the other files share: checks of what is handed in, the counting of sums, and fractions."""
 
 from dicesums.errors import NoDice, NoDie, NoNumber, NoTotals
 
@@ -75,3 +75,13 @@ def counted(dice):
                 larger[total + face] = larger.get(total + face, 0) + counts[total]
         counts = larger
     return counts
+
+
+def fraction(part, whole):
+    shared = whole
+    left = part
+    while left:
+        behind = shared % left
+        shared = left
+        left = behind
+    return (part // shared, whole // shared)
