@@ -1,4 +1,4 @@
-"""What the other files share: checks of what is handed in, the counting of sums, and fractions."""
+"""What the other files share: checks of what is handed in, the counting of rolls and sums, and fractions."""
 
 from dicesums.errors import NoDice, NoDie, NoNumber, NoTotals
 
@@ -7,6 +7,7 @@ MOST_DICE = 4
 GREATEST_FACE = 30
 GREATEST_TOTAL = 120
 MOST_WAYS = 4096
+GREATEST_ASKED = 999
 
 
 def is_number(thing, low, high):
@@ -75,6 +76,21 @@ def counted(dice):
                 larger[total + face] = larger.get(total + face, 0) + counts[total]
         counts = larger
     return counts
+
+
+def at_least(counts, total):
+    return sum([counts[reached] for reached in counts if reached >= total])
+
+
+def product(numbers):
+    many = 1
+    for number in numbers:
+        many = many * number
+    return many
+
+
+def how_many(dice):
+    return product([len(die) for die in dice])
 
 
 def fraction(part, whole):

@@ -1,8 +1,7 @@
 """Which dice beat which, rings and rows of them, and how likely a total is."""
 
-from dicesums.basics import counted, fraction, is_number, need_dice, need_die, need_number
-
-GREATEST_ASKED = 999
+from dicesums.basics import GREATEST_ASKED, at_least, counted, fraction, how_many, is_number
+from dicesums.basics import need_dice, need_die, need_number
 
 
 def wins(one, other):
@@ -20,16 +19,7 @@ def beats(one, other):
 
 def all_rings(dice):
     need_dice(dice)
-    table = beaten(dice)
-    found = []
-    paths = [(place,) for place in range(len(dice))]
-    while paths:
-        longer = []
-        for path in paths:
-            longer.extend(steps(table, path))
-        found.extend([path for path in longer if goes_round(table, path)])
-        paths = longer
-    return sorted(found)
+    return rings(beaten(dice))
 
 
 def is_ring(dice, thing):
@@ -55,9 +45,7 @@ def order(dice):
 def chance(dice, total):
     need_dice(dice)
     need_number(total, 0, GREATEST_ASKED)
-    counts = counted(dice)
-    enough = sum([counts[reached] for reached in counts if reached >= total])
-    return fraction(enough, sum(counts.values()))
+    return fraction(at_least(counted(dice), total), how_many(dice))
 
 
 def lesser(die, than):
@@ -69,6 +57,18 @@ def beaten(dice):
     for one in dice:
         table.append([beats(one, other) for other in dice])
     return table
+
+
+def rings(table):
+    found = []
+    paths = [(place,) for place in range(len(table))]
+    while paths:
+        longer = []
+        for path in paths:
+            longer.extend(steps(table, path))
+        found.extend([path for path in longer if goes_round(table, path)])
+        paths = longer
+    return sorted(found)
 
 
 def steps(table, path):

@@ -1,6 +1,6 @@
 """Dice that have told totals: pairs, threes, the missing die, the others to two dice."""
 
-from dicesums.basics import GREATEST_FACE, MOST_FACES, counted, need_die, need_number, need_totals
+from dicesums.basics import GREATEST_FACE, MOST_FACES, counted, need_die, need_number, need_totals, product
 from dicesums.errors import NoNumber, TooMany
 
 MOST_FIRST_FACES = 4
@@ -84,13 +84,6 @@ def shapes(totals, sizes):
                 longer[larger] = True
         found = list(longer)
     return [dice for dice in found if rest(counts, counted(dice)) == {}]
-
-
-def product(sizes):
-    many = 1
-    for size in sizes:
-        many = many * size
-    return many
 
 
 def grown(counts, sizes, dice):

@@ -105,3 +105,8 @@ def plain_found(totals, sizes, least):
     greatest = totals[-1][0]
     all_dice = [list(combinations_with_replacement(range(least, greatest + 1), size)) for size in sizes]
     return [dice for dice in product(*all_dice) if plain_totals(dice) == totals]
+
+
+def parts(number):
+    """A fraction as the program tells it."""
+    return (number.numerator, number.denominator)

@@ -35,6 +35,16 @@ def nodes(kind):
     return [(name, node) for name, text in sources() for node in ast.walk(ast.parse(text)) if isinstance(node, kind)]
 
 
+def top_names(text):
+    found = set()
+    for node in ast.parse(text).body:
+        if isinstance(node, (ast.FunctionDef, ast.ClassDef)):
+            found.add(node.name)
+        elif isinstance(node, ast.Assign):
+            found.add(node.targets[0].id)
+    return found
+
+
 class FormTest(unittest.TestCase):
     def test_nothing_but_plain_files(self):
         for path in PACKAGE.iterdir():
@@ -71,6 +81,21 @@ class FormTest(unittest.TestCase):
             self.assertEqual(node.level, 0)
             self.assertIn(node.module, modules, name)
 
+    def test_names_are_drawn_from_the_file_that_defines_them(self):
+        defined = {"dicesums." + name[:-3]: top_names(text) for name, text in sources()}
+        for name, node in nodes(ast.ImportFrom):
+            for drawn in node.names:
+                self.assertIn(drawn.name, defined[node.module], (name, node.lineno))
+
+    def test_no_two_files_draw_from_one_another(self):
+        draws = {"dicesums." + name[:-3]: set() for name, text in sources()}
+        for name, node in nodes(ast.ImportFrom):
+            draws["dicesums." + name[:-3]].add(node.module)
+        while draws:
+            free = [module for module in draws if not draws[module] & set(draws)]
+            self.assertNotEqual(free, [], draws)
+            draws = {module: draws[module] for module in draws if module not in free}
+
     def test_names(self):
         for name, node in nodes(ast.Name):
             self.assertRegex(node.id, r"^[A-Za-z][A-Za-z0-9_]*$", name)
@@ -80,10 +105,11 @@ class FormTest(unittest.TestCase):
         for name, node in nodes(ast.arg):
             self.assertFalse(hasattr(builtins, node.arg), (name, node.lineno))
 
-    def test_no_local_is_called_like_an_import(self):
+    def test_no_local_is_called_like_an_import_or_a_class(self):
         for name, text in sources():
             tree = ast.parse(text)
             drawn = {one.name for node in ast.walk(tree) if isinstance(node, ast.ImportFrom) for one in node.names}
+            drawn |= {node.name for node in tree.body if isinstance(node, ast.ClassDef)}
             stored = {node.id for node in ast.walk(tree)
                       if isinstance(node, ast.Name) and isinstance(node.ctx, ast.Store)}
             given = {node.arg for node in ast.walk(tree) if isinstance(node, ast.arg)}
@@ -94,6 +120,20 @@ class FormTest(unittest.TestCase):
         for name, node in nodes(ast.Call):
             if isinstance(node.func, ast.Attribute):
                 self.assertIn(node.func.attr, METHODS | own, (name, node.lineno))
+
+    def test_values_of_objects_are_called_like_no_method(self):
+        own = {method.name for name, node in nodes(ast.ClassDef) for method in node.body
+               if isinstance(method, ast.FunctionDef)}
+        pythons = {name for kind in (str, int, list, tuple, dict, set, frozenset, bytes) for name in dir(kind)}
+        for name, node in nodes(ast.Attribute):
+            if isinstance(node.ctx, ast.Store):
+                self.assertNotIn(node.attr, own | pythons, (name, node.lineno))
+        self.assertEqual({name for name in own if not name.startswith("__")} & pythons, set())
+
+    def test_powers_have_a_written_exponent(self):
+        for name, node in nodes(ast.BinOp):
+            if isinstance(node.op, ast.Pow):
+                self.assertIsInstance(node.right, ast.Constant, (name, node.lineno))
 
 
 if __name__ == "__main__":

@@ -4,7 +4,7 @@ from itertools import product
 
 from dicesums.errors import NoDice
 from dicesums.measuring import likeliest, mean, middle, spread
-from tests.support import NO_DICE
+from tests.support import NO_DICE, parts
 
 SIX = (1, 2, 3, 4, 5, 6)
 
@@ -28,10 +28,6 @@ SOME_DICE = [
 
 def sums(dice):
     return sorted(sum(roll) for roll in product(*dice))
-
-
-def parts(number):
-    return (number.numerator, number.denominator)
 
 
 class MeanTest(unittest.TestCase):
